@@ -1,0 +1,87 @@
+"""Charts of functions that call one another: checked, and turned."""
+
+from callmatch.errors import NoChart
+from callmatch.tables import MOST_FACTS, turned
+
+MOST_FUNCTIONS = 6
+MOST_PLACES = 10
+MOST_EDGES = 24
+
+
+def checked(chart):
+    """A copy of the chart; or NoChart, with the numbers of the first function or edge that is wrong."""
+    check_functions(chart)
+    # Behind the functions, since edges are held against the places and facts of any of them.
+    check_edges(chart)
+    return [(places, facts, list(edges)) for places, facts, edges in chart]
+
+
+def check_functions(chart):
+    """Refuse a wrong number of functions, and the first function with wrong places or facts."""
+    if not 1 <= len(chart) <= MOST_FUNCTIONS:
+        raise NoChart(-1, -1)
+    for f, function in enumerate(chart):
+        if not (1 <= function[0] <= MOST_PLACES and 1 <= function[1] <= MOST_FACTS):
+            raise NoChart(f, -1)
+
+
+def check_edges(chart):
+    """Refuse the first edge that is wrong or one too many."""
+    ahead = 0
+    for f, function in enumerate(chart):
+        for k, edge in enumerate(function[2]):
+            if ahead == MOST_EDGES or not edge_fits(chart, function, edge):
+                raise NoChart(f, k)
+            ahead += 1
+
+
+def edge_fits(chart, function, edge):
+    """Whether an edge of this function has the numbers and tables of its sort."""
+    places = function[0]
+    facts = function[1]
+    if not (0 <= edge[1] < places and 0 <= edge[2] < places and 1 <= edge[3] <= 10 ** 18):
+        return False
+    if edge[0] == "step":
+        return table_fits(edge[4], facts, facts)
+    if edge[0] == "call":
+        return call_fits(chart, facts, edge)
+    return False
+
+
+def call_fits(chart, facts, edge):
+    """Whether a call, from a function of so many facts, is of a function and has the tables for it."""
+    if not 0 <= edge[4] < len(chart):
+        return False
+    inner_facts = chart[edge[4]][1]
+    return (
+        table_fits(edge[5], facts, inner_facts)
+        and table_fits(edge[6], inner_facts, facts)
+        and table_fits(edge[7], facts, facts)
+    )
+
+
+def table_fits(table, n, to):
+    """Whether a table is one of n facts, to as many as told."""
+    return len(table) == n and all([0 <= mask < (1 << to) for mask in table])
+
+
+def turned_chart(chart):
+    """The chart that goes the other way."""
+    functions = []
+    for places, facts, edges in chart:
+        functions.append((places, facts, [turned_edge(chart, places, facts, edge) for edge in edges]))
+    return functions
+
+
+def turned_edge(chart, places, facts, edge):
+    """An edge of a function of so many places and facts, from its end to its beginning."""
+    p = places - 1 - edge[2]
+    q = places - 1 - edge[1]
+    cost = edge[3]
+    if edge[0] == "step":
+        return ("step", p, q, cost, turned(edge[4], facts))
+    g = edge[4]
+    # What was brought back is what goes in now, and the other way round.
+    into = turned(edge[6], facts)
+    back = turned(edge[5], chart[g][1])
+    return ("call", p, q, cost, g, into, back, turned(edge[7], facts))

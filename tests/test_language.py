@@ -1,0 +1,130 @@
+"""The package's files keep to the small part of Python that it is written in, as far as a reader of trees can see."""
+
+import ast
+import builtins
+import pathlib
+import re
+import unittest
+
+PACKAGE = pathlib.Path(__file__).resolve().parent.parent / "callmatch"
+
+NODES = """Module Expr ImportFrom alias FunctionDef Lambda ClassDef arguments arg Assign AugAssign If While For
+    Return Break Continue Pass Raise Try ExceptHandler Constant Name Attribute Subscript Slice Call keyword List Tuple
+    Dict Set BinOp UnaryOp BoolOp Compare IfExp ListComp comprehension JoinedStr FormattedValue Load Store
+    Add Sub Mult FloorDiv Mod Pow BitAnd BitOr BitXor LShift RShift Invert USub UAdd Not And Or
+    Eq NotEq Lt LtE Gt GtE Is IsNot In NotIn""".split()
+OWN_NAMES = """len range enumerate zip min max sum abs sorted reversed int str bool list tuple dict set frozenset
+    isinstance ord repr any all divmod Exception ValueError TypeError KeyError IndexError LookupError
+    ZeroDivisionError ArithmeticError OverflowError RuntimeError NotImplementedError AttributeError
+    StopIteration""".split()
+METHODS = """append clear copy count endswith extend find get index insert isalnum isalpha isdigit islower isspace
+    isupper items join keys ljust lower lstrip partition pop remove replace reverse rfind rjust rpartition rsplit
+    rstrip setdefault split splitlines startswith strip update upper values zfill bit_length""".split()
+SPECIAL = ["__init__", "__eq__", "__repr__", "__str__", "__len__"]
+WORDS = """type typing typing_extensions enum Enum IntEnum StrEnum Flag IntFlag Generic Protocol ABC ABCMeta
+    namedtuple NamedTuple TypedDict TYPE_CHECKING abstractmethod""".split()
+PARTS = ["dataclass", "overload", "contextmanager"]
+UNUSED = """register mro elements open input version_info with_traceback add_note attrgetter breakpoint builtins
+    compile copyright credits delattr dir eval exec exit gc getattr globals hasattr help id importlib license locals
+    methodcaller os quit setattr super type vars sys""".split()
+KINDS = (str, int, float, bytes, list, tuple, dict, set, frozenset)
+
+
+def bound_names(node):
+    """The names that a node of the tree gives a meaning to."""
+    if isinstance(node, ast.Name) and isinstance(node.ctx, ast.Store):
+        return [node.id]
+    if isinstance(node, ast.arg):
+        return [node.arg]
+    if isinstance(node, (ast.FunctionDef, ast.ClassDef)):
+        return [node.name]
+    if isinstance(node, ast.ExceptHandler) and node.name:
+        return [node.name]
+    return []
+
+
+class Language(unittest.TestCase):
+    def setUp(self):
+        self.texts = {path.name: path.read_text(encoding="utf-8") for path in sorted(PACKAGE.glob("*.py"))}
+        self.trees = {name: ast.parse(text) for name, text in self.texts.items()}
+
+    def nodes(self):
+        for name, tree in self.trees.items():
+            for node in ast.walk(tree):
+                yield f"{name}:{getattr(node, 'lineno', 0)}", node
+
+    def test_files(self):
+        self.assertIn("__init__.py", self.texts)
+        for path in PACKAGE.iterdir():
+            if path.name != "__pycache__":
+                self.assertRegex(path.name, r"^(__init__|[a-z][a-z0-9_]*)\.py$")
+
+    def test_signs_and_sizes(self):
+        for name, text in self.texts.items():
+            self.assertRegex(text, r"\A[ -~\n]*\Z", name)
+            self.assertLessEqual(len(text.splitlines()), 400, name)
+            for line in text.splitlines():
+                self.assertLessEqual(len(line), 120, (name, line))
+
+    def test_functions_are_short(self):
+        for where, node in self.nodes():
+            if isinstance(node, ast.FunctionDef):
+                self.assertLessEqual(node.end_lineno - node.lineno + 1, 40, where)
+
+    def test_words(self):
+        for name, text in self.texts.items():
+            found = set(re.findall(r"\w+", text)) & set(WORDS)
+            self.assertEqual(found, set(), name)
+            for part in PARTS:
+                self.assertNotIn(part, text, name)
+
+    def test_forms(self):
+        for where, node in self.nodes():
+            self.assertIn(node.__class__.__name__, NODES, where)
+            if isinstance(node, ast.Assign):
+                # The strictest reading of one target: no tuple of them either.
+                self.assertEqual(len(node.targets), 1, where)
+                self.assertNotIsInstance(node.targets[0], (ast.Tuple, ast.List), where)
+            if isinstance(node, ast.Try):
+                self.assertEqual(node.finalbody, [], where)
+            if isinstance(node, (ast.For, ast.While)):
+                self.assertEqual(node.orelse, [], where)
+            if isinstance(node, (ast.FunctionDef, ast.ClassDef)):
+                self.assertEqual(node.decorator_list, [], where)
+            if isinstance(node, ast.ListComp):
+                self.assertEqual(len(node.generators), 1, where)
+                self.assertLessEqual(len(node.generators[0].ifs), 1, where)
+            if isinstance(node, ast.arguments):
+                self.assertEqual((node.posonlyargs, node.kwonlyargs, node.vararg, node.kwarg), ([], [], None, None))
+            if isinstance(node, ast.FormattedValue):
+                self.assertIsInstance(node.value, ast.Name, where)
+            if isinstance(node, ast.Constant):
+                self.assertNotIsInstance(node.value, (float, complex, bytes), where)
+                self.assertNotIn("%", str(node.value), where)
+
+    def test_imports(self):
+        for name, tree in self.trees.items():
+            for node in ast.walk(tree):
+                if isinstance(node, ast.ImportFrom):
+                    self.assertIn(node, tree.body, name)
+                    self.assertEqual(node.level, 0, name)
+                    self.assertRegex(node.module, r"^callmatch\.[a-z_]+$", name)
+                    self.assertNotIn("*", [alias.name for alias in node.names], name)
+
+    def test_names(self):
+        for where, node in self.nodes():
+            for name in [name for name in bound_names(node) if name not in SPECIAL]:
+                self.assertNotIn(name, UNUSED, where)
+                self.assertFalse(hasattr(builtins, name), (where, name))
+                self.assertFalse(name.startswith("_"), (where, name))
+            if isinstance(node, ast.Name) and hasattr(builtins, node.id):
+                self.assertIn(node.id, OWN_NAMES, where)
+
+    def test_methods(self):
+        for where, node in self.nodes():
+            if isinstance(node, ast.Attribute) and any(hasattr(kind, node.attr) for kind in KINDS):
+                self.assertIn(node.attr, METHODS + ["__init__", "add", "discard"], where)
+
+
+if __name__ == "__main__":
+    unittest.main()
