@@ -1,11 +1,14 @@
-"""Charts of functions that call one another: checked, and turned."""
+"""Charts of functions that call one another: checked, turned, and asked for what a move goes by."""
 
 from callmatch.errors import NoChart
-from callmatch.tables import MOST_FACTS, turned
+from callmatch.tables import MOST_FACTS, brings, turned
 
 MOST_FUNCTIONS = 6
 MOST_PLACES = 10
 MOST_EDGES = 24
+
+# Which part of an edge is the table that a move of this sort goes by.
+MOVE_TABLES = {"step": 4, "in": 5, "over": 7}
 
 
 def checked(chart):
@@ -85,3 +88,26 @@ def turned_edge(chart, places, facts, edge):
     into = turned(edge[6], facts)
     back = turned(edge[5], chart[g][1])
     return ("call", p, q, cost, g, into, back, turned(edge[7], facts))
+
+
+def exit_of(chart, f):
+    """The place that is the exit of function f."""
+    return chart[f][0] - 1
+
+
+def start_facts(chart, start):
+    """The facts of function 0 that are in the start, rising."""
+    return [d for d in range(chart[0][1]) if start >> d & 1]
+
+
+def edge_taken(chart, here, move):
+    """The edge by which a step, over or in can be made from (function, place, fact); None where there is none."""
+    edges = chart[here[0]][2]
+    n = move[1]
+    # Looked at here since an index below nought would otherwise count from the end.
+    if not 0 <= n < len(edges):
+        return None
+    edge = edges[n]
+    if edge[0] != ("step" if move[0] == "step" else "call") or edge[1] != here[1]:
+        return None
+    return edge if brings(edge[MOVE_TABLES[move[0]]], here[2], move[2]) else None

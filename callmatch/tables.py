@@ -15,6 +15,11 @@ def same(n):
     return tuple([1 << d for d in range(n)])
 
 
+def brings(table, d, e):
+    """Whether a table brings its fact d to e, which may be any whole number."""
+    return e in facts_in(table[d])
+
+
 def table_of(n, pairs):
     """The table of n facts that brings d to e for each pair (d, e)."""
     masks = [0] * n

@@ -28,6 +28,8 @@ UNUSED = """register mro elements open input version_info with_traceback add_not
     compile copyright credits delattr dir eval exec exit gc getattr globals hasattr help id importlib license locals
     methodcaller os quit setattr super type vars sys""".split()
 KINDS = (str, int, float, bytes, list, tuple, dict, set, frozenset)
+WALKS = ["zip", "enumerate", "reversed", "range", "items", "keys", "values"]
+WALKERS = ["list", "tuple", "dict", "sorted", "sum", "any", "all", "enumerate", "zip", "min", "max", "join"]
 
 
 def bound_names(node):
@@ -41,6 +43,13 @@ def bound_names(node):
     if isinstance(node, ast.ExceptHandler) and node.name:
         return [node.name]
     return []
+
+
+def called_name(node):
+    """The name or the method that a call calls; None for all that is no call."""
+    if not isinstance(node, ast.Call):
+        return None
+    return node.func.id if isinstance(node.func, ast.Name) else getattr(node.func, "attr", None)
 
 
 class Language(unittest.TestCase):
@@ -124,6 +133,67 @@ class Language(unittest.TestCase):
         for where, node in self.nodes():
             if isinstance(node, ast.Attribute) and any(hasattr(kind, node.attr) for kind in KINDS):
                 self.assertIn(node.attr, METHODS + ["__init__", "add", "discard"], where)
+
+    def test_is(self):
+        for where, node in self.nodes():
+            if isinstance(node, ast.Compare):
+                for deed, side in zip(node.ops, node.comparators):
+                    if isinstance(deed, (ast.Is, ast.IsNot)):
+                        self.assertIn(getattr(side, "value", 0), (None, True, False), where)
+
+    def test_walked_on_the_spot(self):
+        for name, tree in self.trees.items():
+            spots = []
+            for node in ast.walk(tree):
+                if isinstance(node, (ast.For, ast.comprehension)):
+                    spots.append(node.iter)
+                if called_name(node) in WALKERS:
+                    spots.extend(node.args)
+            for node in ast.walk(tree):
+                if called_name(node) in WALKS:
+                    self.assertIn(node, spots, f"{name}:{node.lineno}")
+
+    def test_methods_and_values_have_unlike_names(self):
+        methods, values = set(), set()
+        for where, node in self.nodes():
+            if isinstance(node, ast.ClassDef):
+                methods |= {part.name for part in node.body if isinstance(part, ast.FunctionDef)}
+            if isinstance(node, ast.Attribute) and isinstance(node.ctx, ast.Store):
+                values.add(node.attr)
+        self.assertEqual(methods & values, set())
+
+    def test_no_two_files_draw_from_one_another(self):
+        drawn = {}
+        for name, tree in self.trees.items():
+            modules = [node.module for node in ast.walk(tree) if isinstance(node, ast.ImportFrom)]
+            drawn[name] = {module.partition(".")[2] + ".py" for module in modules}
+        # Files that draw from none left are taken off, till none is left; in a ring none could be.
+        while drawn:
+            free = [name for name, others in drawn.items() if not others & set(drawn)]
+            self.assertNotEqual(free, [], drawn)
+            for name in free:
+                del drawn[name]
+
+    def test_names_are_drawn_from_the_file_that_defines_them(self):
+        for name, tree in self.trees.items():
+            for node in ast.walk(tree):
+                if isinstance(node, ast.ImportFrom):
+                    there = self.trees[node.module.partition(".")[2] + ".py"]
+                    defined = [bound for part in ast.walk(there) for bound in bound_names(part)]
+                    for alias in node.names:
+                        self.assertIn(alias.name, defined, name)
+                        self.assertIsNone(alias.asname, name)
+
+    def test_no_local_is_called_like_an_import_or_a_class(self):
+        for name, tree in self.trees.items():
+            taken = [part.name for part in tree.body if isinstance(part, ast.ClassDef)]
+            for part in tree.body:
+                if isinstance(part, ast.ImportFrom):
+                    taken.extend([alias.name for alias in part.names])
+            for part in ast.walk(tree):
+                if not isinstance(part, ast.ClassDef):
+                    for bound in bound_names(part):
+                        self.assertNotIn(bound, taken, f"{name}:{part.lineno}")
 
 
 if __name__ == "__main__":
