@@ -100,6 +100,16 @@ def start_facts(chart, start):
     return [d for d in range(chart[0][1]) if start >> d & 1]
 
 
+def edges_from(chart, f, p):
+    """The edges of function f that lead from place p, as pairs of number and edge, in order."""
+    return [(n, edge) for n, edge in enumerate(chart[f][2]) if edge[1] == p]
+
+
+def table_past(edge):
+    """The table by which one goes on behind an edge in the same function: a step's own, or a call's over."""
+    return edge[MOVE_TABLES["step" if edge[0] == "step" else "over"]]
+
+
 def edge_taken(chart, here, move):
     """The edge by which a step, over or in can be made from (function, place, fact); None where there is none."""
     edges = chart[here[0]][2]

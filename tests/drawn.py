@@ -10,40 +10,51 @@ def drawn_table(draw, n, to, full):
     return tuple([sum([1 << e for e in range(to) if draw.randrange(10) < full]) for d in range(n)])
 
 
-def drawn_edge(draw, sizes, f, full, most_cost):
+def drawn_edge(draw, sizes, f, reached, full, most_cost):
+    """An edge of function f, mostly from a place that is reached by those drawn already, often to its exit."""
     places, facts = sizes[f]
-    p, q, cost = draw.randrange(places), draw.randrange(places), draw.randint(1, most_cost)
+    p = draw.choice(reached) if draw.randrange(5) > 0 else draw.randrange(places)
+    q = places - 1 if draw.randrange(3) == 0 else draw.randrange(places)
+    cost = draw.randint(1, most_cost)
     if draw.randrange(2) == 0:
         return ("step", p, q, cost, drawn_table(draw, facts, facts, full))
     g = draw.randrange(len(sizes))
     into = drawn_table(draw, facts, sizes[g][1], full)
     back = drawn_table(draw, sizes[g][1], facts, full)
-    return ("call", p, q, cost, g, into, back, drawn_table(draw, facts, facts, full // 2))
+    return ("call", p, q, cost, g, into, back, drawn_table(draw, facts, facts, full // 3))
 
 
-def drawn_chart(seed, functions=3, places=4, facts=3, edges=12, full=4, most_cost=9):
+def drawn_chart(seed, functions=3, places=4, facts=3, edges=14, full=5, most_cost=9):
     """A chart of at most so many functions, places, facts, edges and cost."""
     draw = random.Random(seed)
     many = draw.randint(1, functions)
     sizes = [(draw.randint(1, places), draw.randint(1, facts)) for f in range(many)]
     chart = [size + ([],) for size in sizes]
-    for k in range(draw.randint(0, edges)):
+    for k in range(draw.randint(edges // 3, edges)):
         f = draw.randrange(many)
-        chart[f][2].append(drawn_edge(draw, sizes, f, full, most_cost))
+        reached = [0] + [edge[2] for edge in chart[f][2]]
+        chart[f][2].append(drawn_edge(draw, sizes, f, reached, full, most_cost))
     return chart
 
 
-def largest_chart(seed, full=10, most_cost=MOST_COST, calls=None):
-    """Six functions of ten places and six facts, 24 edges; so many calls, or as they are drawn."""
+def largest_chart(seed, full=10, most_cost=MOST_COST, calls=5):
+    """Six functions of ten places and six facts; in each four edges from the entry over three places to the exit.
+
+    An edge is a call with a chance of calls out of ten; the last function has a step past them all.
+    """
     draw = random.Random(seed)
-    sizes = [(10, 6)] * 6
-    chart = [(10, 6, []) for f in range(6)]
-    k = 0
-    while k < 24:
-        edge = drawn_edge(draw, sizes, k % 6, full, most_cost)
-        if calls is None or (edge[0] == "call") == (k < calls):
-            chart[k % 6][2].append(edge)
-            k += 1
+    chart = []
+    for f in range(6):
+        midst = draw.sample(range(1, 9), 3)
+        edges = []
+        for p, q in zip([0] + midst, midst + [9]):
+            tables = [drawn_table(draw, 6, 6, full) for k in range(3)]
+            if draw.randrange(10) < calls:
+                edges.append(("call", p, q, draw.randint(1, most_cost), draw.randrange(6)) + tuple(tables))
+            else:
+                edges.append(("step", p, q, draw.randint(1, most_cost), tables[0]))
+        chart.append((10, 6, edges))
+    chart[5][2][3] = ("step", 0, 9, draw.randint(1, most_cost), drawn_table(draw, 6, 6, full))
     return chart
 
 
