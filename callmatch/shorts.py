@@ -19,12 +19,17 @@ def inner(chart):
 
 def shorts(chart, f):
     """The least costs of function f from a fact at its entry to one at its exit, by pairs of these."""
+    return all_shorts(chart)[f]
+
+
+def all_shorts(chart):
+    """The short cuts of all functions, in order."""
     inside = inner(chart)
     told = claims(chart, 0, inside[0])
-    costs = {}
+    costs = [{} for function in chart]
     for key, k in inside[1].items():
-        if key[0] == f and key[2] == exit_of(chart, f):
-            costs[(key[1], key[3])] = told[k][5]
+        if key[2] == exit_of(chart, key[0]):
+            costs[key[0]][(key[1], key[3])] = told[k][5]
     return costs
 
 

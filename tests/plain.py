@@ -58,6 +58,38 @@ def plain_places(chart, start, inside):
     return places
 
 
+def told_moves(chart, inside):
+    """All (key, key behind, cost) of one move, or of a call that is shut again, by (function, place, fact)."""
+    for f, function in enumerate(chart):
+        for edge in function[2]:
+            for d in range(function[1]):
+                here = (f, edge[1], d)
+                past = edge[4] if edge[0] == "step" else edge[7]
+                for e in facts(past[d]):
+                    yield here, (f, edge[2], e), edge[3]
+                if edge[0] == "call":
+                    g, into, back = edge[4:7]
+                    for b in facts(into[d]):
+                        yield here, (g, 0, b), edge[3]
+                        for y in range(chart[g][1]):
+                            if (g, b, chart[g][0] - 1, y) in inside:
+                                for e in facts(back[y]):
+                                    yield here, (f, edge[2], e), edge[3] + inside[(g, b, chart[g][0] - 1, y)]
+
+
+def plain_back(chart, target, inside):
+    """The least costs to the target from all (function, place, fact): gone on with till no cost gets lower."""
+    moves = list(told_moves(chart, inside))
+    costs = {target: 0}
+    lower = True
+    while lower:
+        lower = False
+        for here, there, cost in moves:
+            if there in costs and put_lower(costs, here, cost + costs[there]):
+                lower = True
+    return costs
+
+
 def plain_shut(chart, start, inside, places):
     """Point 14, sentence by sentence."""
     begins = [inside.get((f, d, 0, d)) == 0 for f, function in enumerate(chart) for d in range(function[1])]
