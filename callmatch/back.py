@@ -8,15 +8,19 @@ from callmatch.tables import facts_in
 
 def back(chart, f, p, d):
     """For each (g, q, e) from which some moves lead to place p of function f with fact d: their least cost."""
-    ahead = leads(chart)
+    return costs_along(leads(chart), (f, p, d))
+
+
+def costs_along(ahead, key):
+    """The least costs to this key, by what `leads` tells of the chart."""
     costs = {}
     offers = Offers()
-    offers.offer(0, (f, p, d), None)
+    offers.offer(0, key, None)
     settled = offers.settled()
     while settled is not None:
-        key = settled[1]
-        costs[key] = settled[0]
-        for before, cost in ahead.get(key, []):
+        here = settled[1]
+        costs[here] = settled[0]
+        for before, cost in ahead.get(here, []):
             offers.offer(settled[0] + cost, before, None)
         settled = offers.settled()
     return costs

@@ -21,12 +21,17 @@ def brings(table, d, e):
 
 
 def table_of(n, pairs):
-    """The table of n facts that brings d to e for each pair (d, e)."""
-    masks = [0] * n
+    """The table of n facts that brings d to e for each pair (d, e); or NoTable where one of them is no fact."""
     for d, e in pairs:
-        # Looked at here since an index below nought would otherwise count from the end.
         if not (0 <= d < n and 0 <= e < MOST_FACTS):
             raise NoTable(f"no table of {n} facts: pair {d}, {e}")
+    return gathered(n, pairs)
+
+
+def gathered(n, pairs):
+    """The table of n facts that brings d to e for each pair (d, e), none of which is looked at."""
+    masks = [0] * n
+    for d, e in pairs:
         masks[d] |= 1 << e
     return tuple(masks)
 
@@ -67,8 +72,4 @@ def less(one, other):
 
 def turned(table, n):
     """The table of n facts that brings e to d where the table brings d to e."""
-    masks = [0] * n
-    for d, e in pairs_of(table):
-        if e < n:
-            masks[e] |= 1 << d
-    return tuple(masks)
+    return gathered(n, [(e, d) for d, e in pairs_of(table) if e < n])

@@ -7,11 +7,17 @@ from callmatch.tables import brings
 
 def walked(chart, start, fact, moves):
     """(function, place, fact, cost, open) at the end of a way; or NoWay, with the number of the first wrong move."""
+    return stops(chart, start, fact, moves)[-1]
+
+
+def stops(chart, start, fact, moves):
+    """What `walked` tells, of the way's beginning and behind each of its moves."""
     if fact not in start_facts(chart, start):
         raise NoWay(0)
     here = (0, 0, fact)
     cost = 0
     calls = []
+    told = [here + (0, 0)]
     for at, move in enumerate(moves, start=1):
         edge = edge_of_move(chart, here, calls, move)
         if edge is None:
@@ -26,7 +32,8 @@ def walked(chart, start, fact, moves):
         else:
             here = (here[0], edge[2], move[2])
             cost += edge[3]
-    return here + (cost, len(calls))
+        told.append(here + (cost, len(calls)))
+    return told
 
 
 def edge_of_move(chart, here, calls, move):

@@ -3,7 +3,7 @@
 import random
 
 KEPT = ("function", "call", "dye", "wash", "if", "to", "return", "back", "here")
-SORTS = "number copy copy does does call call call dye dye wash if if to return".split()
+SORTS = "number copy copy does does call call call call dye dye wash if if if to return".split()
 
 
 def drawn_name(draw, taken):
@@ -22,34 +22,40 @@ def drawn_names(draw, many):
     return names
 
 
-def drawn_row(draw, sort, variables, givens, many):
-    """A row of this sort, of a function of so many variables and rows; None where it needs a variable and has none."""
-    if sort == "to":
-        return ("to", draw.randrange(many))
-    if variables == 0:
-        return None
+def drawn_target(draw, p, many):
+    """A row that row p goes to, or a function that function p calls; mostly one behind it, so that runs do end."""
+    if draw.randrange(4) > 0 and p + 1 < many:
+        return draw.randrange(p + 1, many)
+    return draw.randrange(many)
+
+
+def drawn_row(draw, sort, f, p, variables, givens, many):
+    """A row of this sort as row p of function f, which has so many variables and rows; a to where it has none."""
+    if sort == "to" or variables == 0:
+        return ("to", drawn_target(draw, p, many))
     x, y, z = [draw.randrange(variables) for k in range(3)]
     if sort == "call":
-        g = draw.randrange(len(givens))
+        g = drawn_target(draw, f, len(givens))
         return ("call", x, g, tuple([draw.randrange(variables) for k in range(givens[g])]))
-    ends = {"copy": (y,), "does": (draw.choice("+-*"), y, z), "if": (draw.randrange(many),)}
+    ends = {"copy": (y,), "does": (draw.choice("+-*"), y, z), "if": (drawn_target(draw, p, many),)}
     ends["number"] = (draw.choice((0, 0, 1, 2, 10, 10 ** 17, 10 ** 18 - 1)),)
     return (sort, x) + ends.get(sort, ())
 
 
-def drawn_rows(draw, variables, givens, many, edges):
-    """Rows, at most so many, that become at most so many edges, the last one a to or a return."""
+def edges_of(rows):
+    return sum([2 if row[0] == "if" else 1 for row in rows])
+
+
+def drawn_rows(draw, f, variables, givens, many, edges):
+    """So many rows of function f that become at most so many edges, the last one a to or a return."""
     rows = []
-    while len(rows) < many - 1:
-        row = drawn_row(draw, draw.choice(SORTS), variables, givens, many)
-        if row is None:
-            row = ("to", draw.randrange(many))
-        if row[0] == "if" and sum([1 + (ahead[0] == "if") for ahead in rows]) + 2 + many - 1 - len(rows) > edges:
+    for p in range(many - 1):
+        row = drawn_row(draw, draw.choice(SORTS), f, p, variables, givens, many)
+        if row[0] == "if" and edges_of(rows) + 2 + many - 1 - p > edges:
             row = ("dye", row[1])
         rows.append(row)
-    last = None if draw.randrange(8) == 0 else drawn_row(draw, "return", variables, givens, many)
-    rows.append(last or ("to", draw.randrange(many)))
-    return rows
+    last = "to" if draw.randrange(8) == 0 else "return"
+    return rows + [drawn_row(draw, last, f, many - 1, variables, givens, many)]
 
 
 def variables_of(row):
@@ -87,15 +93,15 @@ def drawn_program(seed, functions=6, variables=4, rows=9):
     """A program of at most so many functions, variables and rows; each variable that isn't given stands in a row."""
     draw = random.Random(seed)
     many = draw.randint(1, functions)
-    sizes = [draw.choice((0, 1, 2, 2, 3, 4)) if variables == 4 else draw.randint(0, variables) for f in range(many)]
+    sizes = [min(variables, draw.choice((0, 1, 2, 2, 2, 3, 3, 3, 4, 4))) for f in range(many)]
     givens = [draw.randint(0, size) for size in sizes]
     left = 24
     program = []
     for f, name in enumerate(drawn_names(draw, many)):
         most = min(rows, left - (many - 1 - f))
         length = draw.randint(1, max(1, min(most, 2 * (left // (many - f)))))
-        raw = drawn_rows(draw, sizes[f], givens, length, left - (many - 1 - f))
-        left -= sum([1 + (row[0] == "if") for row in raw])
+        raw = drawn_rows(draw, f, sizes[f], givens, length, left - (many - 1 - f))
+        left -= edges_of(raw)
         size, ordered = in_order(givens[f], raw)
         program.append((name, givens[f], tuple(drawn_names(draw, size)), ordered))
     return program

@@ -157,3 +157,120 @@ def plain_read(text):
         rows = [plain_row(*form, variables, functions) for form in forms]
         program.append((functions[len(program)], len(given), tuple(variables), tuple(rows)))
     return program
+
+
+def becomes(row, d, last):
+    """The facts that fact d becomes by a row that is no call, sentence by sentence."""
+    told = {d}
+    sort = row[0]
+    if sort == "return":
+        return {0: {0}, 1 + row[1]: {last}}.get(d, set())
+    if sort in ("number", "wash", "copy", "does") and d == 1 + row[1]:
+        told = set()
+    if sort == "copy" and d == 1 + row[2]:
+        told.add(1 + row[1])
+    if sort == "does" and d in (1 + row[3], 1 + row[4]):
+        told.add(1 + row[1])
+    if sort == "dye" and d == 0:
+        told.add(1 + row[1])
+    return told
+
+
+def table(facts):
+    """The table that brings d to what is the d-th of these sets."""
+    return tuple([sum([2 ** e for e in told]) for told in facts])
+
+
+def call_tables(row, n, m):
+    """into, back and over of a call, from a function of n facts to one of m."""
+    x, args = row[1], row[3]
+    into = [{0}] + [{1 + i for i, v in enumerate(args) if 1 + v == d} for d in range(1, n)]
+    back = [{0}] + [{1 + x} if d == m - 1 else set() for d in range(1, m)]
+    over = [set() if d in (0, 1 + x) else {d} for d in range(n)]
+    return table(into), table(back), table(over)
+
+
+def plain_chart(program):
+    """The chart of a program."""
+    chart = []
+    for name, given, variables, rows in program:
+        n = len(variables) + 2
+        edges = []
+        for p, row in enumerate(rows):
+            past = table([becomes(row, d, n - 1) for d in range(n)]) if row[0] != "call" else None
+            if row[0] == "call":
+                m = len(program[row[2]][2]) + 2
+                edges.append(("call", p, p + 1, 1, row[2]) + call_tables(row, n, m))
+            elif row[0] == "if":
+                edges += [("step", p, p + 1, 1, past), ("step", p, row[2], 1, past)]
+            elif row[0] == "to":
+                edges.append(("step", p, row[1], 1, past))
+            else:
+                edges.append(("step", p, len(rows) if row[0] == "return" else p + 1, 1, past))
+        chart.append((len(rows) + 1, n, edges))
+    return chart
+
+
+class Spent(Exception):
+    pass
+
+
+class PlainRun:
+    """A run by recursion, a call of Python's for each call of the program's."""
+
+    def __init__(self, program, most):
+        self.program, self.most, self.steps, self.states = program, most, 0, []
+
+    def come(self, f, p, dyed, last=False):
+        mask = 1 | sum([2 ** (1 + v) for v in dyed]) | (2 ** (1 + len(self.program[f][2])) if last else 0)
+        self.states.append((self.steps, f, p, mask))
+
+    def function(self, f, values, dyes):
+        """The value given back, and whether it is dyed."""
+        rows = self.program[f][3]
+        held = dict(enumerate(values + [0] * (len(self.program[f][2]) - len(values))))
+        dyed = {v for v, dye in enumerate(dyes) if dye}
+        p = 0
+        while True:
+            self.come(f, p, dyed)
+            if self.steps == self.most:
+                raise Spent
+            self.steps += 1
+            row = rows[p]
+            if row[0] == "return":
+                self.come(f, len(rows), (), row[1] in dyed)
+                return held[row[1]], row[1] in dyed
+            p = self.row(row, p, held, dyed)
+
+    def row(self, row, p, held, dyed):
+        """The place behind a row that is no return."""
+        if row[0] == "to":
+            return row[1]
+        if row[0] == "if":
+            return p + 1 if held[row[1]] == 0 else row[2]
+        x = row[1]
+        value, dye = held[x], row[0] == "dye"
+        if row[0] == "number":
+            value = row[2]
+        elif row[0] == "copy":
+            value, dye = held[row[2]], row[2] in dyed
+        elif row[0] == "does":
+            y, z = held[row[3]], held[row[4]]
+            value = {"+": y + z, "-": y - z, "*": y * z}[row[2]] % 10 ** 18
+            dye = bool(dyed & {row[3], row[4]})
+        elif row[0] == "call":
+            value, dye = self.function(row[2], [held[v] for v in row[3]], [v in dyed for v in row[3]])
+        held[x] = value
+        dyed.discard(x)
+        dyed.update([x] if dye else [])
+        return p + 1
+
+
+def plain_run(program, values, dyed, most):
+    """(states, end) of a run."""
+    going = PlainRun(program, most)
+    try:
+        value, dye = going.function(0, values, [dyed & 2 ** v for v in range(program[0][1])])
+    except Spent:
+        return going.states, ("spent",)
+    return going.states, ("done", value)

@@ -111,6 +111,15 @@ class Language(unittest.TestCase):
                 self.assertNotIsInstance(node.value, (float, complex, bytes), where)
                 self.assertNotIn("%", str(node.value), where)
 
+    def test_the_top_of_a_file_has_plain_values(self):
+        for name, tree in self.trees.items():
+            for part in tree.body:
+                if isinstance(part, ast.Assign):
+                    for node in ast.walk(part.value):
+                        self.assertIsInstance(node, (ast.Constant, ast.Tuple, ast.List, ast.Dict, ast.Load), name)
+                else:
+                    self.assertIsInstance(part, (ast.Expr, ast.ImportFrom, ast.FunctionDef, ast.ClassDef), name)
+
     def test_imports(self):
         for name, tree in self.trees.items():
             for node in ast.walk(tree):
